@@ -1,0 +1,1 @@
+"""Dosehouse: nothing is given beyond its bounds."""
