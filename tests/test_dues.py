@@ -1,4 +1,4 @@
-"""Points 14, 15 and 16: the dues of an order, their states and tapers; points 2 and 5 for what is handed in and told."""
+"""Points 14, 15 and 16: dues, their states and tapers; points 2 and 5 for what is handed in and told."""
 
 import random
 import unittest
